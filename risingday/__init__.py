@@ -1,0 +1,1 @@
+"""Risingday: a house to which people come by the clock."""
