@@ -1,6 +1,6 @@
 """Checks that several files ask for; each raises the error of its kind."""
 from risingday.errors import BadName, BadNumber, BadPart
-from risingday.kinds import is_count, is_count_or_never, is_listed, is_name
+from risingday.kinds import MOST_DESKS, is_between, is_count, is_count_or_never, is_listed, is_name
 
 
 def need_count(number):
@@ -21,9 +21,15 @@ def need_minutes(part, minutes):
         raise BadPart(part)
 
 
-def need_name_and_place(name, place):
-    """Two names, of something and of where it is."""
+def need_name_and_place(name, place, part):
+    """Two names, of something and of its place; the part is the word for the place."""
     if not is_name(name):
         raise BadName(name)
     if not is_name(place):
-        raise BadPart("place")
+        raise BadPart(part)
+
+
+def need_desks(desks):
+    """A number of desks."""
+    if not is_between(desks, 1, MOST_DESKS):
+        raise BadNumber(desks)

@@ -3,6 +3,7 @@
 LETTERS = "abcdefghijklmnopqrstuvwxyz"
 LAST_MINUTE = 9999
 LONGEST = 600
+MOST_DESKS = 3
 
 
 def is_whole(value):

@@ -1,5 +1,5 @@
 """The n-th least of moments, and which of them it rests on."""
-from risingday.checks import need_count, need_minute, need_minutes
+from risingday.checks import need_count, need_desks, need_minute, need_minutes
 from risingday.errors import BadNumber, BadPart
 from risingday.kinds import is_between, is_count_or_never, is_listed, is_whole
 from risingday.never import is_less, minutes_more, nth_least
@@ -103,6 +103,5 @@ def keeps_above(moments, n, places):
 def desk_free(ends, desks):
     """When a desk is free, by the ends of those ahead."""
     need_minutes("ends", ends)
-    if not is_between(desks, 1, 3):
-        raise BadNumber(desks)
+    need_desks(desks)
     return 0 if len(ends) < desks else nth_least(ends, len(ends) - desks + 1)
