@@ -150,12 +150,10 @@ def nth_at(parts, minute, n):
 def nth_parts(parts, start, end, n):
     """The rows of the n-th least of parts from the start on, ahead of the end."""
     found = []
-    minutes = meetings_of(parts, start, end)
-    for place, minute in enumerate(minutes):
-        stop = minutes[place + 1] if place + 1 < len(minutes) else end
+    for minute in meetings_of(parts, start, end):
         value = nth_at(parts, minute, n)
-        grows = value is not None and (stop is None or minute + 1 < stop)
-        found.append((minute, value, grows and nth_at(parts, minute + 1, n) == value + 1))
+        # Whether it grows does not matter for a row of this one minute alone.
+        found.append((minute, value, value is not None and nth_at(parts, minute + 1, n) == value + 1))
     return found
 
 
