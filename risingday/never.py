@@ -13,6 +13,11 @@ def lesser(one, other):
     return other if is_less(other, one) else one
 
 
+def greater(one, other):
+    """The greater one of two minutes."""
+    return one if is_less(other, one) else other
+
+
 def minutes_more(minute, more):
     """The minute that comes so many minutes later."""
     return None if minute is None else minute + more
