@@ -75,7 +75,7 @@ def shows_limit(day, paper):
     if not isinstance(paper, tuple) or len(paper) != 4:
         return False
     word, key, limit, table = paper
-    if not isinstance(word, str) or not is_moment_key(day, key) or not is_count(limit):
+    if not is_moment_key(day, key) or not is_count(limit):
         return False
     if word == "kept":
         return shows_at_most(day, key, limit, table)

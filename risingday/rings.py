@@ -1,27 +1,24 @@
 """Rings among needs, told as dicts from moments, in order, to what they need, in order."""
 
 
-def steps_to(behind, places, goal):
-    """The dict from the moments that rest on the goal to the least number of needs that lead there.
-
-    Only moments that are not ahead of the goal, in order, count as steps.
-    """
+def steps_to(behind, goal):
+    """The dict from the moments that rest on the goal to the least number of needs that lead there."""
     steps = {goal: 0}
     found = [goal]
     while found:
         further = []
         for moment in found:
             for key in behind[moment]:
-                if key not in steps and places[key] >= places[goal]:
+                if key not in steps:
                     steps[key] = steps[moment] + 1
                     further.append(key)
         found = further
     return steps
 
 
-def ring_from(needs, behind, places, first):
-    """The least one of the shortest rings in which a moment is the least one, [] without any."""
-    steps = steps_to(behind, places, first)
+def ring_from(needs, behind, first):
+    """The least one of the shortest rings that begin with a moment, [] without any."""
+    steps = steps_to(behind, first)
     ring = []
     nearest = first
     while nearest != first or not ring:
@@ -36,10 +33,10 @@ def ring_from(needs, behind, places, first):
 
 def ring_of(needs, behind):
     """The told shortest ring, None without any."""
-    places = {key: place for place, key in enumerate(needs)}
     best = None
+    # Of rings of one length the first one that is found begins with the least moment of all of them.
     for first in needs:
-        ring = ring_from(needs, behind, places, first)
+        ring = ring_from(needs, behind, first)
         if ring and (best is None or len(ring) < len(best)):
             best = ring
     return best

@@ -29,7 +29,7 @@ BATH = Room("bath", "mill", 4, [("ann", 3), ("bo", 1)], {("bo", 1): 2, ("ann", 3
 LOFT = Room("loft", "inn")
 
 NO_ERRAND_KEYS = [*ODD, None, 5, (), ("ann",), "ann", ("ann", 1), ("ann", 5), ("ann", 4, "ends"), ("ann", True),
-                  ("ann", -1), ("bo", False), ("bo", 0), ("bo", 4), ("cy", 0), ("di", 0), ["ann", 0], (["ann"], 0),
+                  ("ann", False), ("bo", True), ("ann", -1), ("bo", False), ("bo", 0), ("bo", 4), ("cy", 0), ("di", 0), ["ann", 0], (["ann"], 0),
                   ("ann", [0]), ("ann", None), (0, "ann"), ("Ann", 0), ("ann", "0"), {}]
 
 
@@ -111,6 +111,13 @@ class AsTold(Promises):
         bath = Room("bath", "inn", 0, [("a", 0), ("a", 1)], {("a", 0): 0})
         day = Day([Person("a", "inn", 0, [("room", "bath", 5), ("room", "bath", 5)])], None, [], [], [bath])
         self.assertEqual((day.notice_of(("a", 0)), day.is_early(("a", 0)), day.is_early(("a", 1))), (0, True, False))
+
+    def test_a_place_may_have_the_name_of_a_counter(self):
+        ann = Person("ann", "bank", 0, [("stay", "bank", 5), ("counter", "bank", 6), ("stay", "talk", 1), ("meet", "talk")])
+        ways = Ways({("bank", "talk"): stay(), ("talk", "bank"): stay()})
+        day = Day([ann], ways, [Counter("bank", "bank", order=[("ann", 1)])], [Meeting("talk", "bank", 0, 0)])
+        self.assertEqual((day.at_same(("ann", 0)), day.at_same(("ann", 1)), day.at_same(("ann", 3))),
+                         ([], [("ann", 1)], [("ann", 3)]))
 
     def test_behind_struck_errands(self):
         errands = [None, ("stay", "hall", 1), None, None, ("stay", "mill", 1)]

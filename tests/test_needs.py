@@ -227,7 +227,7 @@ class Rows(Promises):
         day = at_one_place({"bo": [("counter", "till", 5), ("stay", "inn", 1)], "ann": [("counter", "till", 5)]})
         row = row_of_needs(day)
         self.assertIs(does_stand(day=day, value=row), True)
-        for value in [tuple(row), row[:-1], row[1:], [*row, row[0]], [*row[:-1], row[0]], [*row, ("zoe", 0, "ends")],
+        for value in [tuple(row), row[:-1], row[1:], [*row, row[0]], [*row, row[-1]], [*row[:-1], row[0]], [*row, ("zoe", 0, "ends")],
                       [*row[:-1], ("zoe", 0, "ends")], [*row[:-1], None], [list(key) for key in row], [], *NO_LISTS, *ODD,
                       [*row[:-1], (row[-1][0], True, row[-1][2])], {key: True for key in row}, [[]]]:
             self.assertIs(does_stand(day, value), False, value)
