@@ -14,8 +14,8 @@ def depth(day):
     needs = day.workings().needs
     depths = {}
     for key in day.workings().row:
-        depths[key] = 1 + max([0, *[int(depths[need]) for need in needs[key]]])
-    return max([0, *[int(many) for many in depths.values()]])
+        depths[key] = 1 + max([int(depths[need]) for need in needs[key]], default=0)
+    return max([int(many) for many in depths.values()], default=0)
 
 
 def is_chain(day, chain):

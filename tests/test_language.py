@@ -1,4 +1,4 @@
-"""The rules of ../shared/LANGUAGE.md that can be seen line by line: L1, L2, L4, L6 to L10, L14, L16, L17, L20, L27."""
+"""The rules of ../shared/LANGUAGE.md that can be seen line by line: L1, L2, L4, L6 to L10, L14 to L18, L20, L27."""
 import ast
 import builtins
 import io
@@ -101,6 +101,29 @@ class Language(unittest.TestCase):
             self.assertNotIn(node.arg, every | BARRED, where)
         for where, node in nodes(ast.Attribute):
             self.assertNotIn(node.attr, BARRED | {"format", "format_map"}, where)
+
+    def test_no_name_of_a_function_is_an_import_or_a_class_of_its_file(self):
+        for name, tree in trees():
+            told = {part.asname or part.name for node in tree.body if isinstance(node, ast.ImportFrom) for part in node.names}
+            told |= {node.name for node in tree.body if isinstance(node, ast.ClassDef)}
+            for node in ast.walk(tree):
+                if isinstance(node, ast.Name) and isinstance(node.ctx, ast.Store):
+                    self.assertNotIn(node.id, told, f"{name}:{node.lineno}")
+                if isinstance(node, ast.arg):
+                    self.assertNotIn(node.arg, told, f"{name}:{node.lineno}")
+
+    def test_no_name_is_a_method_and_an_attribute(self):
+        methods, attributes = set(), set()
+        for _, node in nodes(ast.ClassDef):
+            methods |= {part.name for part in node.body if isinstance(part, ast.FunctionDef)}
+        for _, node in nodes(ast.Attribute):
+            if isinstance(node.ctx, ast.Store):
+                attributes.add(node.attr)
+        self.assertEqual(methods & attributes, set())
+
+    def test_lists_in_the_place_of_generators(self):
+        for where, node in nodes(ast.GeneratorExp, ast.Yield, ast.YieldFrom):
+            self.fail(where)
 
     def test_is_with_none_true_and_false_alone(self):
         for where, node in nodes(ast.Compare):

@@ -1,0 +1,67 @@
+"""[2]: names and parameters of the interface, each defined in the file under which it stands."""
+import importlib
+import inspect
+import unittest
+
+FUNCTIONS = {
+    "days": ["changed_by(day, setting)"],
+    "keys": ["is_errand_key(day, value)", "is_moment_key(day, value)", "errand_keys(day)", "moment_keys(day)",
+             "key_place(day, key)"],
+    "needs": ["needs_of(day, key)", "rests_on(day, key)", "hangs_on(day, key)", "does_rest(day, key, other)",
+              "shortest_ring(day)", "is_barred(day)", "free_keys(day)", "row_of_needs(day)", "does_stand(day, value)",
+              "groups(day)"],
+    "moments": ["moments(day)", "free_moments(day)", "moment(day, key)", "along(day, row)", "made_by(day, key)",
+                "worked_from(day, table)", "is_plain(day)", "not_plain(day)"],
+    "below": ["is_below(day, table)", "shows_at_least(day, key, number, table)", "slim_below(day, key)",
+              "is_slim_below(day, key, table)", "round_below(day, table)", "greater_of(day, one, other)",
+              "best_below(day, keys)"],
+    "above": ["is_above(day, table)", "shows_at_most(day, key, number, table)", "slim_above(day, key)",
+              "is_slim_above(day, key, table)", "round_above(day, table)", "lesser_of(day, one, other)",
+              "best_above(day, keys)", "exact_paper(day, key)", "shows_exact(day, key, paper)",
+              "limit_paper(day, key, limit)", "shows_limit(day, paper)"],
+    "chains": ["depth(day)", "is_chain(day, chain)", "chain_numbers(day, chain)", "chain_table(day, chain)",
+               "chain_of(day, key)", "shows_chain(day, key, number, chain)"],
+    "things": ["things_of(day)", "value_of(day, thing)", "is_thing(day, value)", "late_moments(day, lateness)"],
+    "bearing": ["bears(day, thing, key, minute)", "bears_all(day, key, minute)", "critical(day, key, minute)",
+                "dues(day, key, minute)"],
+    "late": ["worst(day, late, most)", "worst_lot(day, late, key, most)", "layers(day, late, most)",
+             "is_promise(day, late, key, minute, most)", "bearable(day, late, key, minute)"],
+    "latepapers": ["bearing_paper(day, thing, key, minute)", "shows_bearing(day, thing, key, minute, value)",
+                   "worst_paper(day, late, key, most)", "shows_worst(day, late, key, most, value)"],
+}
+CLASSES = {
+    ("days", "Day"): ["__init__(self, people=(), ways=None, counters=(), meetings=(), rooms=())", "__eq__(self, other)",
+                      "persons(self)", "all_ways(self)", "all_counters(self)", "all_meetings(self)", "all_rooms(self)",
+                      "all_places(self)", "the_person(self, name)", "the_counter(self, name)", "the_meeting(self, name)",
+                      "the_room(self, name)", "all_keys(self)", "the_errand(self, key)", "place_of(self, key)",
+                      "key_ahead(self, key)", "place_ahead(self, key)", "leg_of(self, key)", "at_same(self, key)",
+                      "next_behind(self, key)", "notice_of(self, key)", "is_early(self, key)"],
+    ("summaries", "Summary"): ["__init__(self, day)", "__eq__(self, other)", "moment_keys(self)", "number_of(self, key)",
+                               "names_of(self, key)", "map_of(self, key, name)", "base_of(self, key, *, least=0)",
+                               "line_of(self, key, name, *, least=0)", "given(self, leaves)",
+                               "does_count(self, key, name)", "free_minute(self, key, name)",
+                               "latest(self, key, name, limit)", "latest_of_all(self, key, limit)"],
+}
+
+
+class Interface(unittest.TestCase):
+    def is_as_told(self, found, head, module):
+        self.assertTrue(inspect.isfunction(found), head)
+        self.assertEqual(found.__module__, f"risingday.{module}")
+        self.assertEqual(f"{found.__name__}{inspect.signature(found)}", head)
+
+    def test_functions(self):
+        for module, heads in FUNCTIONS.items():
+            for head in heads:
+                self.is_as_told(getattr(importlib.import_module(f"risingday.{module}"), head.split("(")[0]), head, module)
+
+    def test_methods_stand_in_their_classes(self):
+        for (module, name), heads in CLASSES.items():
+            own = getattr(importlib.import_module(f"risingday.{module}"), name)
+            self.assertEqual(own.__module__, f"risingday.{module}")
+            for head in heads:
+                self.is_as_told(vars(own)[head.split("(")[0]], head, module)
+
+
+if __name__ == "__main__":
+    unittest.main()
