@@ -1,6 +1,6 @@
 """Checks that several files ask for; each raises the error of its kind."""
 from risingday.errors import BadName, BadNumber, BadPart
-from risingday.kinds import MOST_DESKS, is_between, is_count, is_count_or_never, is_listed, is_name
+from risingday.kinds import MOST_DESKS, is_between, is_count, is_count_or_never, is_listed, is_name, is_told_minute
 
 
 def need_count(number):
@@ -12,6 +12,12 @@ def need_count(number):
 def need_minute(number):
     """An integer of 0 or more, or never."""
     if not is_count_or_never(number):
+        raise BadNumber(number)
+
+
+def need_told_minute(number):
+    """An integer that may be told as a minute."""
+    if not is_told_minute(number):
         raise BadNumber(number)
 
 

@@ -1,9 +1,9 @@
 """The rules by which moments are made, one class for each kind of rule.
 
 Told values are a dict from things to integers, numbers a dict from moments to minutes. Each rule tells what it asks
-for (`asks`), what it gives of told values and numbers (`gives`), and which moments make this (`makers`). Where a day
-is plain its rules are the greatest of maps: `parts` is the list of the pairs (source, map), a source being a moment
-or a thing of which the told value counts.
+for (`asks`), which told numbers, map and hours it uses (`uses`), what it gives of told values and numbers (`gives`),
+and which moments make this (`makers`). Where a day is plain its rules are the greatest of maps: `parts` is the list
+of the pairs (source, map), a source being a moment or a thing of which the told value counts.
 """
 from risingday.never import greater, is_less
 from risingday.nth import desk_free, greatest, later_by, nth
@@ -27,6 +27,9 @@ class Arrival:
     def asks(self):
         return [self._source] if len(self._source) == 3 else []
 
+    def uses(self, told):
+        return (told.get(self._source), self._leg)
+
     def gives(self, told, numbers):
         start = numbers[self._source] if self._source in numbers else told[self._source]
         return later_by(self._leg(start), told[self._more])
@@ -46,6 +49,9 @@ class StayBegin:
 
     def asks(self):
         return [self._arrival]
+
+    def uses(self, told):
+        return ()
 
     def gives(self, told, numbers):
         return numbers[self._arrival]
@@ -71,6 +77,11 @@ class CounterBegin:
 
     def asks(self):
         return [self._arrival, *self._begins, *self._ends]
+
+    def uses(self, told):
+        # Of desks only the number of the end counts at which one is free, where there is one.
+        number = len(self._ends) - self._desks + 1 if self._ends else 0
+        return (number, self._hours, told[self._n])
 
     def _begin_ahead(self, numbers):
         return greatest([numbers[begin] for begin in self._begins])
@@ -104,6 +115,9 @@ class MeetingBegin:
     def asks(self):
         return list(self._arrivals)
 
+    def uses(self, told):
+        return (told[self._opens], self._quorum)
+
     def gives(self, told, numbers):
         return meeting_begin(told[self._opens], [numbers[arrival] for arrival in self._arrivals], self._quorum)
 
@@ -129,6 +143,9 @@ class RoomBegin:
     def asks(self):
         return [self._arrival, *self._ends]
 
+    def uses(self, told):
+        return (told[self._turn],) if self._ends else ()
+
     def gives(self, told, numbers):
         turn = told[self._turn] if self._ends else 0
         return room_begin(numbers[self._arrival], greatest([numbers[end] for end in self._ends]), turn)
@@ -153,6 +170,9 @@ class LastingEnd:
     def asks(self):
         return [self._begin]
 
+    def uses(self, told):
+        return (told[self._n],)
+
     def gives(self, told, numbers):
         return later_by(numbers[self._begin], told[self._n] + told[self._more])
 
@@ -174,6 +194,9 @@ class MeetingEnd:
 
     def asks(self):
         return [self._begin, self._arrival]
+
+    def uses(self, told):
+        return (told[self._length],)
 
     def gives(self, told, numbers):
         end = meeting_end(numbers[self._begin], told[self._length], numbers[self._arrival])
@@ -200,6 +223,9 @@ class GuestEnd:
 
     def asks(self):
         return [self._begin, self._behind]
+
+    def uses(self, told):
+        return (told[self._n], told[self._notice])
 
     def gives(self, told, numbers):
         return guest_end(numbers[self._begin], told[self._n] + told[self._more], told[self._notice],

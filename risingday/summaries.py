@@ -1,73 +1,20 @@
 """Plain days as tables of maps, for all minutes of leaving."""
-from risingday.checks import need_count
-from risingday.errors import BadName, BadNumber, BadPart, NotSo
+from risingday.checks import need_count, need_told_minute
+from risingday.errors import BadName, BadPart, NotSo
 from risingday.keys import need_moment_key
-from risingday.kinds import LAST_MINUTE, is_name, is_told_minute
+from risingday.kinds import LAST_MINUTE, is_name
 from risingday.moments import is_plain
 from risingday.needs import need_unbarred
-from risingday.never import greater, is_less, lesser
+from risingday.never import is_less, lesser
 from risingday.nth import greatest
-from risingday.rising import since, stay, until
+from risingday.sumrows import base_at, line_over, rows_told, told_lines, value_for
 
 
-def followed(row, rising):
-    """The row behind a map."""
-    number, maps = row
-    return (rising(number), {name: one >> rising for name, one in maps.items()})
-
-
-def greater_row(one, other):
-    """The greater one of two rows."""
-    maps = {name: rising for name, rising in one[1].items()}
-    for name, rising in other[1].items():
-        maps[name] = maps[name] | rising if name in maps else rising
-    return (greater(one[0], other[0]), maps)
-
-
-def row_of_thing(told, thing):
-    """The row of a leaving, or that of an opening, which is a number alone."""
-    return (0, {thing[1]: stay()}) if thing[0] == "leaves" else (told[thing], {})
-
-
-def rows_told(workings):
-    """The dict from all moments to their told rows, pairs of a number and a dict from names to maps."""
-    rows = {}
-    for key in workings.row:
-        row = (0, {})
-        for source, rising in workings.rules[key].parts(workings.told):
-            ahead = rows[source] if source in rows else row_of_thing(workings.told, source)
-            row = greater_row(row, followed(ahead, rising))
-        rows[key] = row
-    return workings.in_order(rows)
-
-
-def value_for(row, leaves):
-    """What a row gives for the minutes at which people leave."""
-    number, maps = row
-    return greatest([number, *[rising(leaves[name]) for name, rising in maps.items()]])
-
-
-def base_at(row, minute):
-    """What a row gives with everybody leaving at a minute."""
-    return value_for(row, {name: minute for name in row[1]})
-
-
-def line_over(base, rising):
-    """The greater one of a base and of a map, or of a base alone and each minute."""
-    if base is None:
-        return None
-    return since(base) if rising is None else since(base) | rising
-
-
-def told_lines(row):
-    """What tells a row from those that are not alike to it: its base, and the lines of those who count."""
-    base = base_at(row, 0)
-    lines = {}
-    for name, rising in row[1].items():
-        if is_less(base, rising(LAST_MINUTE)):
-            # Leaves are told minutes: what comes behind them does not count.
-            lines[name] = (until(LAST_MINUTE) >> line_over(base, rising)).rows
-    return (base, lines)
+def need_plain(day):
+    """A plain Day that is not barred."""
+    need_unbarred(day)
+    if not is_plain(day):
+        raise NotSo("summary")
 
 
 def latest_with(number, maps, limit):
@@ -83,12 +30,6 @@ def latest_with(number, maps, limit):
     return minute
 
 
-def need_told_minute(least):
-    """A told minute."""
-    if not is_told_minute(least):
-        raise BadNumber(least)
-
-
 def need_leaves(leaves, names):
     """A dict from just these names to told minutes."""
     if not isinstance(leaves, dict) or len(leaves) != len(names) or not all([name in leaves for name in names]):
@@ -101,9 +42,7 @@ class Summary:
     """A plain day as a table: for each moment a number, and maps for some of the people."""
 
     def __init__(self, day):
-        need_unbarred(day)
-        if not is_plain(day):
-            raise NotSo("summary")
+        need_plain(day)
         self._day = day
         self._leaves = {person.name: person.leaves for person in day.persons()}
         self._rows = rows_told(day.workings())

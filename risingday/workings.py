@@ -111,6 +111,10 @@ class Workings:
         self.behind = needed_by(self.needs)
         self.row = row_along(self.needs, self.behind)
 
+    def rule(self, key):
+        """All that the rule of a moment rests on: what it uses of what is told, and what it needs."""
+        return (self.rules[key].uses(self.told), self.needs[key])
+
     def given(self, key, told, numbers, absent):
         """What the rule of a moment gives; moments that have no number are taken as absent."""
         return self.rules[key].gives(told, {need: numbers.get(need, absent) for need in self.needs[key]})

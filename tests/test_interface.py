@@ -28,6 +28,18 @@ FUNCTIONS = {
              "is_promise(day, late, key, minute, most)", "bearable(day, late, key, minute)"],
     "latepapers": ["bearing_paper(day, thing, key, minute)", "shows_bearing(day, thing, key, minute, value)",
                    "worst_paper(day, late, key, most)", "shows_worst(day, late, key, most, value)"],
+    "alike": ["alike(one, other, *, least=0)", "difference(one, other, *, least=0)", "classes(days)"],
+    "sumpapers": ["table_of(day)", "is_right(day, table)", "is_upper(day, table)", "is_lower(day, table)",
+                  "apart_paper(one, other)", "accepts_apart(one, other, paper)"],
+    "arrivals": ["is_before(queue, one, other)", "by_list(queue, order)", "queue_of(day, name)", "ticket_day(day, name)"],
+    "shifts": ["own_map(queue, index)", "latest_arrival(queue, index, minute)", "steps_of(queue, index)",
+               "effects(queue, index, arrival)", "best_later(queue, index, who)", "gains_of(queue)",
+               "spaced_begins(queue)", "busy_end(queue)"],
+    "arrivalpapers": ["busy_paper(queue)", "spaced_paper(queue, j)", "gains_paper(queue, who)", "shown_by(queue, value)",
+                      "lets_gains(queue, value)"],
+    "tidings": ["is_tiding(day, value)", "day_behind(day, tiding)", "day_told(day, tidings)", "direction(day, tiding)",
+                "reach(day, tiding)", "hanging(day, tiding)", "comes_late(day, tiding, minute)",
+                "are_apart(day, one, other)"],
 }
 CLASSES = {
     ("days", "Day"): ["__init__(self, people=(), ways=None, counters=(), meetings=(), rooms=())", "__eq__(self, other)",
@@ -41,6 +53,9 @@ CLASSES = {
                                "line_of(self, key, name, *, least=0)", "given(self, leaves)",
                                "does_count(self, key, name)", "free_minute(self, key, name)",
                                "latest(self, key, name, limit)", "latest_of_all(self, key, limit)"],
+    ("arrivals", "Queue"): ["__init__(self, desks, hours, callers)", "__eq__(self, other)", "__len__(self)", "tickets(self)",
+                            "begin_list(self)", "end_list(self)", "last_end(self)", "begins_in_row(self)",
+                            "arrived(self, index, arrival)", "without(self, index)", "lasting(self, index, n)"],
 }
 
 
