@@ -145,12 +145,17 @@ def reach(day, tiding):
     return list(reached_between(day, day_behind(day, tiding)))
 
 
+def late_between(day, told, minute):
+    """The list of the moments that are other in the day behind, and below a minute in one of both days."""
+    return [key for key, numbers in reached_between(day, told).items()
+            if is_less(numbers[0], minute) or is_less(numbers[1], minute)]
+
+
 def comes_late(day, tiding, minute):
     """The list of the moments, in order, that a tiding reaches and that are below a minute ahead of it or behind it."""
     told = day_behind(day, tiding)
     need_count(minute)
-    return [key for key, numbers in reached_between(day, told).items()
-            if is_less(numbers[0], minute) or is_less(numbers[1], minute)]
+    return late_between(day, told, minute)
 
 
 def touched_between(day, told):
