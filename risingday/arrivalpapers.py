@@ -27,19 +27,18 @@ def gains_paper(queue, who):
     need_queue(queue)
     need_index(queue, who)
     best = None
-    found = None
+    earliest = None
     for index, arrival, other in gains_of(queue):
-        if other == who:
-            begin = queue.arrived(index, arrival).begin_list()[who]
-            if best is None or is_less(begin, found):
-                best = ("gains", index, arrival, who)
-                found = begin
+        begin = queue.arrived(index, arrival).begin_list()[who]
+        if other == who and is_less(begin, earliest):
+            best = ("gains", index, arrival, who)
+            earliest = begin
     return best
 
 
 def has_form(value, word, many):
     """Whether any value is a tuple of a word and so many items."""
-    return isinstance(value, tuple) and len(value) == many + 1 and isinstance(value[0], str) and value[0] == word
+    return isinstance(value, tuple) and len(value) == many + 1 and value[0] == word
 
 
 def shown_by(queue, value):

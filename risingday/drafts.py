@@ -90,7 +90,8 @@ def take_order(draft, words):
 
 def take_notice(draft, words):
     """A notice of the last room, for a key that has none there yet."""
-    need_form(draft.ahead in ("order", "notice") and len(draft.rooms) > 0)
+    # Behind a room stands its order: so the line ahead is one of these.
+    need_form(len(draft.rooms) > 0)
     need_form(len(words) == 3)
     key = key_read(words[:2])
     notices = draft.rooms[-1][4]

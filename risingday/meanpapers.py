@@ -71,7 +71,7 @@ def accepts_means(day, targets, menu, value):
     need_unbarred(day)
     need_targets(day, targets)
     need_menu(day, menu)
-    if not isinstance(value, tuple) or len(value) != 3 or not isinstance(value[0], str) or value[0] != "means":
+    if not isinstance(value, tuple) or len(value) != 3 or value[0] != "means":
         return False
     _, kept, lost = value
     if not isinstance(kept, tuple) or not all([is_kept(day, targets, menu, item) for item in kept]):

@@ -2,7 +2,7 @@
 from risingday.checks import need_count
 from risingday.errors import BadPart
 from risingday.keys import is_moment_key
-from risingday.kinds import is_name, is_whole
+from risingday.kinds import is_whole
 from risingday.making import moment_of
 from risingday.needs import need_unbarred
 from risingday.never import is_less
@@ -95,7 +95,7 @@ def state_of(day, name, minute):
 def there(day, place, minute):
     """The list of the names of those who are at a place, behind all that happens at a minute."""
     need_unbarred(day)
-    if not is_name(place) or place not in day.all_places():
+    if place not in day.all_places():
         raise BadPart("place")
     need_count(minute)
     found = minutes_played(day)
@@ -107,7 +107,7 @@ def keys_of_host(day, name):
     """The keys of the errands at a counter or a room, in its order, or at a meeting, in that of the day."""
     need_unbarred(day)
     for host in [*day.all_counters(), *day.all_rooms()]:
-        if is_name(name) and host.name == name:
+        if host.name == name:
             return list(host.order)
     day.the_meeting(name)
     return [key for key in day.all_keys() if day.the_errand(key) == ("meet", name)]

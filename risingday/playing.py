@@ -11,7 +11,8 @@ def soonest_arrival(day, key, happened):
     """Where the way leads the end of the errand ahead, or the leaving."""
     ahead = day.key_ahead(key)
     start = day.the_person(key[0]).leaves if ahead is None else happened.get(moment_of(ahead, "ends"))
-    return day.leg_of(key)(start)
+    leg = day.leg_of(key)
+    return leg(start)
 
 
 def soonest_meeting(day, key, happened, now):

@@ -23,8 +23,6 @@ def table_of(day):
 
 def map_told(value):
     """The map that any value tells as its rows, None if it does not."""
-    if not isinstance(value, tuple):
-        return None
     try:
         rising = Rising(value)
     except DayError:

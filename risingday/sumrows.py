@@ -103,7 +103,9 @@ def first_apart(base, one, other):
     """The least told minute at which two people count otherwise over one base, None for a map that does not count."""
     if one is None and other is None:
         return None
-    if one is None or other is None:
-        return (other if one is None else one).back(base) + 1
+    if one is None:
+        return other.back(base) + 1
+    if other is None:
+        return one.back(base) + 1
     minute = first_unlike(line_over(base, one), line_over(base, other))
     return None if is_less(LAST_MINUTE, minute) else minute

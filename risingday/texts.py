@@ -87,12 +87,7 @@ def has_key_form(value):
     """Whether any value has the form of the key of an errand or of a moment."""
     if is_key(value):
         return True
-    return isinstance(value, tuple) and len(value) == 3 and is_key(value[:2]) and is_word(value[2])
-
-
-def is_word(value):
-    """Whether any value is a word of a moment."""
-    return isinstance(value, str) and value in WORDS
+    return isinstance(value, tuple) and len(value) == 3 and is_key(value[:2]) and value[2] in WORDS
 
 
 def write_key(key):

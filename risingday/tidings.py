@@ -2,7 +2,7 @@
 from risingday.checks import need_count
 from risingday.days import changed_by
 from risingday.errors import BadPart, BadTiding, DayError
-from risingday.kinds import is_between, is_listed, is_name, is_whole
+from risingday.kinds import is_between, is_listed, is_whole
 from risingday.moments import moments
 from risingday.needs import is_barred, need_unbarred, reached
 from risingday.never import is_less
@@ -17,13 +17,13 @@ NUMBERS = {"leaves": MORE, "n": MORE, "opens": MORE, "length": MORE, "quorum": M
 
 def order_named(day, name):
     """The order of the counter or room of a name, [] for any other value."""
-    hosts = [host for host in [*day.all_counters(), *day.all_rooms()] if is_name(name) and host.name == name]
+    hosts = [host for host in [*day.all_counters(), *day.all_rooms()] if host.name == name]
     return list(hosts[0].order) if hosts else []
 
 
 def exchanged(day, value):
     """The setting of the order that any value tells as an exchange, None if it is none."""
-    if not isinstance(value, tuple) or len(value) != 3 or not isinstance(value[0], str) or value[0] != "exchange":
+    if not isinstance(value, tuple) or len(value) != 3 or value[0] != "exchange":
         return None
     _, name, place = value
     order = order_named(day, name)
@@ -190,7 +190,7 @@ def are_apart(day, one, other):
     with_other = need_behind(day, other, 1)
     both = behind_any(with_one, other)
     turned = behind_any(with_other, one)
-    if both is None or turned is None or both != turned:
+    if both is None or both != turned:
         return False
     days = [day, with_one, with_other, both]
     on_one = hanging_in(days, [*touched_between(day, with_one), *touched_between(with_other, turned)])

@@ -17,13 +17,14 @@ from risingday.meetings import Meeting
 from risingday.needs import is_barred, shortest_ring
 from risingday.people import Person
 from risingday.places import Ways
-from risingday.rising import Rising, nowhere, since, steady, until
+from risingday.rising import Rising, nowhere, since, stay, steady, until
 from risingday.slots import by_slots
 from risingday.summaries import Summary
 from test_chains import plain_day
 from test_days import told
 from test_keys import NO_DAYS
 from test_moments import open_day
+from test_needs import at_one_place
 from test_summaries import NO_TOLD_MINUTES, all_at, example, plain_days
 
 LAST = 330
@@ -148,6 +149,21 @@ class Alike(Promises):
         self.assertEqual(difference(with_way(steady(5), Hours([(0, 9)])), with_way(steady(5), Hours([(0, 20)]))),
                          (("ann", 0, "begins"), {"ann": 1}))
         self.assertIs(alike(with_way(steady(5), Hours([(0, 9)])), with_way(steady(5), Hours([(0, 20)])), least=12), True)
+
+    def test_at_the_first_minute_alone(self):
+        one, other = with_way(stay()), with_way(since(1))
+        self.assertEqual(difference(one, other), (("ann", 0, "arrives"), {"ann": 0}))
+        self.assertIs(alike(one, other), False)
+        self.assertIs(alike(one, other, least=1), True)
+        self.assertEqual(classes([one, other]), [[0], [1]])
+
+    def test_one_who_counts_by_the_very_minute_of_leaving(self):
+        one = at_one_place({"ann": [("counter", "till", 0)], "bo": [("counter", "till", 0)]})
+        other = changed_by(one, ("order", "till", [("bo", 0), ("ann", 0)]))
+        for day, turned in ((one, other), (other, one)):
+            self.assertEqual(difference(day, turned), (("ann", 0, "begins"), {"ann": 0, "bo": 1}))
+            self.assertEqual(difference(day, turned, least=7), (("ann", 0, "begins"), {"ann": 7, "bo": 8}))
+            self.assertIs(difference(day, turned, least=9999), None)
 
     def test_told_leaves_do_not_count(self):
         day = example()

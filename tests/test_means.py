@@ -313,7 +313,7 @@ class Menus(Promises):
                  ("desk", ["till"]), ("quorum", "till"), ("quorum", "talk", 1), ("notice", ("cy", 0)), ("notice", ("di", 0), 1),
                  ("notice", ("cy", 0), 21), ("notice", "cy", 1), ("less", ("cy", 0), 51), ("less", ("cy", 1), 1), ("less", ("zoe", 0), 1),
                  ("less", ("cy", False), 1), ("longer", "till", 0), ("longer", "till", 3, 1), ("longer", "till", -1, 1), ("longer", "till", True, 1),
-                 ("longer", "desk", 0, 1), ("longer", "talk", 0, 1), (b"desk", "till"), (None, "till"), ("longer", "till", 0, 1, 1)]
+                 ("longer", "desk", 0, 1), ("longer", "talk", 0, 1), (b"desk", "till"), (None, "till"), (["desk"], "till"), ({}, "till"), ("longer", "till", 0, 1, 1)]
         for n in [*NO_COUNTS, 0, 601]:
             wrong += [("notice", ("cy", 0), n), ("less", ("cy", 0), n), ("longer", "till", 0, n)]
         for value in wrong:

@@ -143,7 +143,9 @@ class Tables(Promises):
         alone = {key: (10, {"ann": ((0, 10, True),)})}
         self.assertEqual(judged(day, alone), (False, False, False))
         self.assertEqual(judged(day, {key: (10, {})}), (False, False, True))
+        self.assertEqual(judged(day, {key: (11, {})}), (False, False, False))
         self.assertEqual(judged(day, {key: (None, {})}), (False, True, False))
+        self.assertEqual(judged(day, {key: (None, {"zoe": ((0, 10, True),)})}), (False, False, False))
         three = {other: table[other] for other in table if other[0] == "ann"}
         self.assertEqual(judged(day, three), (False, True, True))
         self.assertEqual(judged(day, {other: row for other, row in three.items() if other[2] != "arrives"}),

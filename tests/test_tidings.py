@@ -156,6 +156,7 @@ class Tidings(Promises):
                 ("way", ("inn", "hall"), ((0, 0, True),)), ("way", "inn", "hall")]
         for value in [*ODD, None, 5, [], (), ("leaves",), ("leaves", "ann"), ("leaves", "ann", 5, 6), ["leaves", "ann", 5],
                       ("order", "bank", order), ("order", "bank", order[::-1]), ("Leaves", "ann", 5), (None, "ann", 5),
+                      ("change", "bank", 0), ("bank", "exchange", 0), (b"exchange", "bank", 0), (["exchange"], "bank", 0), ["exchange", "bank", 0],
                       (["leaves"], "ann", 5), ("notice", ("ann", 3), None), ("notice", ("ann", 0), 5), ("struck",),
                       ("struck", ("ann", 0), 0), ("exchange", "bank"), ("exchange", "bank", 0, 0), *ways,
                       ("quorum", "talk", 0), ("quorum", "talk", 3), ("struck", ("ann", 2)), ("desks", "bank", 0), ("desks", "bank", 4),
