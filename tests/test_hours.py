@@ -174,7 +174,7 @@ class Within(Promises):
                 Hours() <= other
 
     def test_witness_held_against_going_through(self):
-        told = many_spans(30, 4)
+        told = many_spans(18, 4)
         for one in told:
             for other in told:
                 wanted = None

@@ -143,7 +143,7 @@ class Led(Promises):
     def test_by_any_row_of_steps(self):
         met = set()
         chance = random.Random(1)
-        for day in some_days(40, 3, 3):
+        for day in some_days(30, 3, 3):
             live, hand = Live(day), ByHandLive(day)
             self.agrees(live, hand)
             for _ in range(25):

@@ -108,7 +108,7 @@ class Numbers(Promises):
 
     def test_notices(self):
         found = set()
-        for day, targets in days_to_ease(90, 5, 3, start=300):
+        for day, targets in days_to_ease(55, 5, 3, start=300):
             for place, key in enumerate([key for key in day.all_keys() if day.notice_of(key) is not None]):
                 if not day.is_early(key) and place > 0:
                     continue
@@ -124,7 +124,7 @@ class Numbers(Promises):
 
     def test_longer_spans(self):
         found = set()
-        for day, targets in days_to_ease(160, start=600):
+        for day, targets in days_to_ease(100, start=600):
             for counter in day.all_counters():
                 for index in range(len(counter.hours.spans() or [])):
                     answer = least_longer(day, counter.name, index, targets)

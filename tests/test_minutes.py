@@ -247,7 +247,7 @@ class AtHosts(Promises):
 
     def test_by_hand(self):
         many = set()
-        for day in some_days(70, 4, 3, start=600):
+        for day in some_days(40, 4, 3, start=600):
             values = worked(day)
             for name in ByHand(day).hosts:
                 keys = self.keys_at(day, name)

@@ -83,7 +83,7 @@ class OwnMaps(Promises):
 class Latest(Promises):
     def test_around_its_answers(self):
         seen = set()
-        for queue in some_queues(60, 2):
+        for queue in some_queues(40, 2):
             for index in range(len(queue)):
                 for minute in (0, 3, 7, 12, 25, 60):
                     found = latest_arrival(queue, index, minute)

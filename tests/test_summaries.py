@@ -137,7 +137,7 @@ class Given(Promises):
 
     def test_bases_and_lines(self):
         chance = random.Random(3)
-        for day in plain_days(40, 3, 3):
+        for day in plain_days(24, 3, 3):
             summary = Summary(day)
             for key in summary.moment_keys():
                 least = chance.choice([0, 0, 5, 30, 9999])
@@ -177,7 +177,7 @@ class Given(Promises):
 class Tells(Promises):
     def test_who_counts(self):
         chance, seen = random.Random(4), {True: 0, False: 0}
-        for day in plain_days(40, 3, 3):
+        for day in plain_days(24, 3, 3):
             summary = Summary(day)
             for key in summary.moment_keys():
                 for person in day.persons():
@@ -194,7 +194,7 @@ class Tells(Promises):
 
     def test_free_minutes(self):
         between = 0
-        for day in plain_days(40, 3, 3):
+        for day in plain_days(24, 3, 3):
             summary = Summary(day)
             base = moments(leaving(day, all_at(day, 0)))
             for key in summary.moment_keys():
@@ -209,7 +209,7 @@ class Tells(Promises):
 
     def test_latest(self):
         chance, seen = random.Random(5), {None: 0, 9999: 0, "between": 0}
-        for day in plain_days(40, 3, 3):
+        for day in plain_days(24, 3, 3):
             summary, own = Summary(day), moments(day)
             for key in summary.moment_keys():
                 limit = max(0, (own[key] or 0) + chance.choice([-30, -4, -1, 0, 1, 9, 50, 9000]))
