@@ -140,7 +140,7 @@ class Console:
 
     def run(self, line):
         """The answer to a line."""
-        need_line(isinstance(line, str) and "\n" not in line)
+        need_line(isinstance(line, str))
         word, blank, rest = line.partition(" ")
         if word == "load" and blank:
             self._live = Live(read_day(rest.replace(" / ", "\n")))

@@ -167,7 +167,7 @@ class Refused(Promises):
         before = all_told(console)
         wrong = [*[value for value in ODD if not isinstance(value, str)], None, 5, [], ["clock"], {}, "", " ", "x", "load", "Load ", "Clock", "CLOCK", "clocks", "5",
                  *BEHIND, *[word + " " for word in ALONE], *[" " + word for word in ALONE], *[word + " 5" for word in ALONE], *[word + "\n" for word in ALONE],
-                 "show show", "wait5", "loads", "wait\t5", "try", "tell", "moment", "moments bo 0 ends", "load\n", "wait 5\n", "load person a b 0\n"]
+                 "show show", "wait5", "loads", "wait\t5", "try", "tell", "moment", "moments bo 0 ends", "load\n", "wait 5\n", "moment bo 0 ends\n", "\nclock"]
         wrong += [f"wait {count}" for count in WRONG_COUNTS] + [f"promise ann 0 ends {count}" for count in WRONG_COUNTS]
         wrong += ["promise", "promise ", "promise 5", "promise ann 0 ends", "promise ann 0 5", "promise ann ends 5", "promise ann 0 end 5", "promise  ann 0 ends 5",
                   "promise ann 0 ends  5", "promise ann 0  ends 5", "promise ann 0 ends 5 5", "promise 0 ann ends 5"]
@@ -191,6 +191,7 @@ class Refused(Promises):
                                     ("redo", NothingToUndo, "undone"), ("tell leaves ann 1", Fixed, ("ann", 0, "arrives")),
                                     ("try leaves ann 1", Fixed, ("ann", 0, "arrives")), ("tell leaves zoe 1", BadTiding, 0), ("try n ann 0 601", BadTiding, 0),
                                     ("tell leaves ann 01", BadText, 0), ("try leaves", BadText, 0), ("tell order till", BadText, 0), ("tell ", BadText, 0),
+                                    ("tell leaves ann 5\n", BadText, 0), ("load person a b 0\n", BadText, 1), ("load person a b 0 / ", BadText, 1),
                                     ("try ", BadText, 0), ("tell hours till 9 0", BadText, 0), ("tell way inn hall level 0 0", BadText, 0), ("load x", BadText, 0)]:
             with self.subTest(line=line):
                 self.refuses(error, stored, console.run, line)
